@@ -1,0 +1,1 @@
+"""Tanglehouse: knots, links and tangles by their diagrams."""

@@ -1,0 +1,25 @@
+"""The interface: each name with its arguments, in the module that the document names."""
+
+import importlib
+import inspect
+import unittest
+
+FUNCTIONS = {
+    "webs": ("check_web(thing)", "places(web)", "named_anew(web)", "mirrored(web)", "shifted(web, many)",
+             "alike_webs(one, other)"),
+    "texts": ("shown(web)", "read(text)"),
+    "faces": ("twin(web, dart)", "behind(web, dart)", "faces(web)", "pieces(web)", "holes(web)", "check_flat(web)"),
+}
+
+
+class Interface(unittest.TestCase):
+    def test_functions(self):
+        for module, rows in FUNCTIONS.items():
+            loaded = importlib.import_module("tanglehouse." + module)
+            for row in rows:
+                name = row.partition("(")[0]
+                self.assertEqual(name + str(inspect.signature(getattr(loaded, name))), row)
+
+
+if __name__ == "__main__":
+    unittest.main()
