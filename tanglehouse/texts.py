@@ -2,8 +2,8 @@
 
 from tanglehouse.errors import NoText
 from tanglehouse.webs import check_web
+from tanglehouse.wholes import is_written
 
-FIGURES = "0123456789"
 MOST_FIGURES = 9
 
 
@@ -24,14 +24,6 @@ def shown(web):
     return " ".join(words)
 
 
-def is_number(word):
-    """Whether a word is a number as it is written."""
-    # isdigit would also take figures of other scripts.
-    if word == "" or len(word) > MOST_FIGURES or not all([sign in FIGURES for sign in word]):
-        return False
-    return word == "0" or word[0] != "0"
-
-
 def words_of(text):
     """The words of a text, those without signs among them."""
     # A text without signs has no words, but Python splits one word off it.
@@ -47,7 +39,7 @@ def stands(words, at, letter):
 
 def number_at(words, at):
     """The number that must stand at a place; behind the last word the text ends too early."""
-    if at >= len(words) or not is_number(words[at]):
+    if at >= len(words) or not is_written(words[at], MOST_FIGURES):
         raise NoText(at)
     return int(words[at])
 

@@ -1,14 +1,14 @@
 """Webs: tuples (crossings, ends, rings), their places and the names of their arcs."""
 
 from tanglehouse.errors import NoWeb, Odd
+from tanglehouse.wholes import is_whole
 
 RIM = -1
 
 
 def is_count(thing):
     """Whether a thing is a whole number from 0 on."""
-    # Python holds True and False for ints.
-    return isinstance(thing, int) and not isinstance(thing, bool) and thing >= 0
+    return is_whole(thing) and thing >= 0
 
 
 def are_arcs(thing):

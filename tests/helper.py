@@ -1,5 +1,9 @@
 """What several tests need: known webs, webs made by chance from a fixed seed, and refusals caught."""
 
+import itertools
+import math
+from collections import Counter
+
 from tanglehouse.errors import TangleError
 
 NOTHING = ((), (), 0)
@@ -13,6 +17,10 @@ UPRIGHT = ((), (0, 0, 1, 1), 0)
 CROSSED_ENDS = ((), (0, 1, 0, 1), 0)
 TORUS = (((0, 1, 0, 1),), (), 0)
 KNOWN = (NOTHING, TREFOIL, FIGURE_EIGHT, HOPF, CURL, SINGLE, LEVEL, UPRIGHT, CROSSED_ENDS, TORUS)
+# A prime so large that polynomials with the same values by it are the same, but for a chance that can't be met.
+PRIME = 2 ** 127 - 1
+# Things of each kind that are no texts and no tuples.
+OTHER_THINGS = (None, True, False, 0, 1, -1, 10 ** 60, [], [0], [(0, 1)], {}, {0: 1}, {"x": "1"})
 
 
 def refusal(function, *given):
@@ -74,3 +82,78 @@ def flat_web(chance, steps, shut):
         crossings = [[kept if arc == gone else arc for arc in row] for row in crossings]
         ends = [kept if arc == gone else arc for arc in ends[2:]]
     return (tuple(tuple(row) for row in crossings), tuple(ends), rings)
+
+
+def narrow_web(chance, crossings, width):
+    """A web whose crossings come one by one, each at arcs that are open: never more than width, the last are ends."""
+    rows, ends, fresh = [], [], 0
+    for _ in range(crossings):
+        chance.shuffle(ends)
+        # The fewest open arcs that may be taken, that with the new ones there are no more than width; or some more.
+        fewest = max(0, (len(ends) + 5 - width) // 2)
+        many = chance.choice((fewest, fewest, fewest, chance.randint(fewest, 4)))
+        row = [ends.pop() for _ in range(min(many, len(ends)))]
+        while len(row) < 4:
+            if len(row) < 3 and chance.randrange(8) == 0:
+                row += [fresh, fresh]
+            else:
+                row.append(fresh)
+                ends.append(fresh)
+            fresh += 1
+        chance.shuffle(row)
+        rows.append(tuple(row))
+    return (tuple(rows), tuple(ends), 0)
+
+
+def twisted_row(many):
+    """So many crossings beside one another, each as in SINGLE, the next one's left arcs the last one's right ones."""
+    rows = tuple((2 * k, 2 * k + 1, 2 * k + 3, 2 * k + 2) for k in range(many))
+    return (rows, (0, 1, 2 * many + 1, 2 * many), 0)
+
+
+def walked(web, ways):
+    """The joining and the rings with the crossings opened, by walking from place to place."""
+    there = {}
+    for k, row in enumerate(web[0]):
+        there.update({(k, j): arc for j, arc in enumerate(row)})
+    there.update({(-1, j): arc for j, arc in enumerate(web[1])})
+    across = [{0: 1, 1: 0, 2: 3, 3: 2}, {0: 3, 3: 0, 1: 2, 2: 1}]
+    left, joining, rings = set(there), [], web[2]
+    while left:
+        start = here = min(left)
+        while True:
+            left.discard(here)
+            here = [place for place in there if place != here and there[place] == there[here]][0]
+            left.discard(here)
+            if here[0] == -1:
+                joining.append((start[1], here[1]))
+                break
+            here = (here[0], across[ways[here[0]]][here[1]])
+            if here == start:
+                rings += 1
+                break
+    return tuple(sorted(joining)), rings
+
+
+def sums_again(web):
+    """The sums of a web over all ways, by walking, each as a dict of powers."""
+    told = {}
+    for ways in itertools.product((0, 1), repeat=len(web[0])):
+        joining, rings = walked(web, ways)
+        numbers = told.setdefault(joining, Counter())
+        for minus in range(rings + 1):
+            power = len(ways) - 2 * sum(ways) + 2 * rings - 4 * minus
+            numbers[power] += (-1) ** rings * math.comb(rings, minus)
+    return told
+
+
+def as_told(again):
+    """What sums_again tells, as sums are to be told."""
+    rows = {joining: tuple(sorted((power, number) for power, number in numbers.items() if number))
+            for joining, numbers in again.items()}
+    return {joining: row for joining, row in rows.items() if row}
+
+
+def value_at(one, x):
+    """A polynomial's value at x by PRIME."""
+    return sum(number * pow(x, power, PRIME) for power, number in one) % PRIME

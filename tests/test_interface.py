@@ -9,6 +9,11 @@ FUNCTIONS = {
              "alike_webs(one, other)"),
     "texts": ("shown(web)", "read(text)"),
     "faces": ("twin(web, dart)", "behind(web, dart)", "faces(web)", "pieces(web)", "holes(web)", "check_flat(web)"),
+    "polynomials": ("is_polynomial(thing)", "plus(one, other)", "minus(one, other)", "times(one, other)",
+                    "lifted(one, many)", "turned_about(one)"),
+    "polytexts": ("shown_polynomial(one)", "read_polynomial(text)"),
+    "ways": ("opened(web, ways)", "weight(ways, rings)", "plain_sums(web)"),
+    "stores": ("order_of(web)", "fronts(web)", "check_narrow(web)", "stores(web)", "sums(web)"),
 }
 
 
