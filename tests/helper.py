@@ -4,6 +4,7 @@ import itertools
 import math
 from collections import Counter
 
+from tanglehouse import parts
 from tanglehouse.errors import TangleError
 
 NOTHING = ((), (), 0)
@@ -157,3 +158,106 @@ def as_told(again):
 def value_at(one, x):
     """A polynomial's value at x by PRIME."""
     return sum(number * pow(x, power, PRIME) for power, number in one) % PRIME
+
+
+def together(webs, seams, ends):
+    """Webs with pairs of ends (web's number, end's number) joined and ends left, by walking; named anew."""
+    there, rows = {}, []
+    for w, web in enumerate(webs):
+        stands = {}
+        for k, row in enumerate(web[0]):
+            rows.append([(w, k, j) for j in range(4)])
+            for j, arc in enumerate(row):
+                stands.setdefault(arc, []).append((w, k, j))
+        for j, arc in enumerate(web[1]):
+            stands.setdefault(arc, []).append((w, -1, j))
+        for one, other in stands.values():
+            there.update({one: other, other: one})
+    across = {}
+    for one, other in seams:
+        across.update({(one[0], -1, one[1]): (other[0], -1, other[1]), (other[0], -1, other[1]): (one[0], -1, one[1])})
+    rows.append([(w, -1, j) for w, j in ends])
+    names, passed = {}, set()
+    for place in [place for row in rows for place in row]:
+        if place not in names:
+            here = there[place]
+            while here in across:
+                passed.update((here, across[here]))
+                here = there[across[here]]
+            names[place] = names[here] = len(names) // 2
+    rings = sum(web[2] for web in webs)
+    for place in across:
+        if place not in passed:
+            rings += 1
+            while place not in passed:
+                passed.update((place, across[place]))
+                place = there[across[place]]
+    rows = [tuple(names[place] for place in row) for row in rows]
+    return (tuple(rows[:-1]), rows[-1], rings)
+
+
+def shut_again(web, place):
+    """A web shut at an end, by walking."""
+    many = len(web[1])
+    after = (place + 1) % many
+    return together([web], [((0, place), (0, after))], [(0, j) for j in range(many) if j not in (place, after)])
+
+
+def glued_again(one, other, many):
+    """Two webs glued by many ends, by walking."""
+    kept = len(one[1]) - many
+    seams = [((0, len(one[1]) - 1 - k), (1, k)) for k in range(many)]
+    return together([one, other], seams, [(0, j) for j in range(kept)] + [(1, j) for j in range(many, len(other[1]))])
+
+
+def above_again(one, other):
+    """A tangle above another one, by walking."""
+    return together([one, other], [((0, 1), (1, 0)), ((0, 2), (1, 3))], [(0, 0), (1, 1), (1, 2), (0, 3)])
+
+
+def quarter_again(one):
+    """A tangle turned leftwards by a quarter, by walking: its upper right end is its upper left one then."""
+    return together([one], [], [(0, 3), (0, 0), (0, 1), (0, 2)])
+
+
+def chance_tangle(chance, crossings):
+    """A tangle whose arcs join places by chance, or a flat one."""
+    if chance.randrange(3) == 0:
+        return chance_web(chance, crossings, 4, chance.choice((0, 1, 3)))
+    while True:
+        web = flat_web(chance, chance.randint(2, crossings + 4), False)
+        if len(web[1]) == 4:
+            return web
+
+
+def part_of(tree):
+    """The part that a tree tells: a tuple of its class's name and of the trees of those that it is made of."""
+    return getattr(parts, tree[0])(*[part_of(one) for one in tree[1:]])
+
+
+def trees(depth):
+    """All parts, told as trees, in which none stands within more than so many others."""
+    told = [("Level",), ("Upright",), ("Single",)]
+    if depth:
+        within = trees(depth - 1)
+        told += [(name, one) for name in ("Turned", "Mirrored") for one in within]
+        told += [(name, one, other) for name in ("Beside", "Above") for one in within for other in within]
+    return told
+
+
+def chance_tree(chance, depth, crossings):
+    """A part, told as a tree, of so many crossings, in which none stands within more than depth others."""
+    if depth == 0 or (crossings < 2 and chance.randrange(3) == 0):
+        return ("Single",) if crossings else (chance.choice(("Level", "Upright")),)
+    most = 2 ** (depth - 1)
+    if crossings <= most and chance.randrange(3) == 0:
+        return (chance.choice(("Turned", "Mirrored")), chance_tree(chance, depth - 1, crossings))
+    first = chance.randint(max(0, crossings - most), min(crossings, most))
+    return (chance.choice(("Beside", "Above")), chance_tree(chance, depth - 1, first),
+            chance_tree(chance, depth - 1, crossings - first))
+
+
+def chance_trees(chance, many, crossings):
+    """So many parts, told as trees, of at most so many crossings, none within more than eight others."""
+    depths = [chance.randint(3, 8) for _ in range(many)]
+    return [chance_tree(chance, depth, chance.randint(0, min(crossings, 2 ** depth))) for depth in depths]

@@ -14,7 +14,17 @@ FUNCTIONS = {
     "polytexts": ("shown_polynomial(one)", "read_polynomial(text)"),
     "ways": ("opened(web, ways)", "weight(ways, rings)", "plain_sums(web)"),
     "stores": ("order_of(web)", "fronts(web)", "check_narrow(web)", "stores(web)", "sums(web)"),
+    "gluing": ("shut(web, place)", "glued(one, other, many)", "beside(one, other)", "above(one, other)", "quarter(one)",
+               "closed(one, way)"),
+    "gluedsums": ("shifted_sums(sums, ends, many)", "mirrored_sums(sums)", "shut_sums(sums, ends, place)",
+                  "glued_sums(one, one_ends, other, other_ends, many)"),
+    "parts": ("Part()", "Level()", "Upright()", "Single()", "Beside(one, other)", "Above(one, other)", "Turned(one)",
+              "Mirrored(one)", "read_part(text)"),
+    "fractions": ("pair(part)", "taken(polynomial)", "value(twists)", "twisted(twists)", "twisted_sums(twists)"),
 }
+# The methods that each kind of part has.
+METHODS = ("web(self)", "sums(self)", "written(self)")
+PARTS = ("Level", "Upright", "Single", "Beside", "Above", "Turned", "Mirrored")
 
 
 class Interface(unittest.TestCase):
@@ -24,6 +34,13 @@ class Interface(unittest.TestCase):
             for row in rows:
                 name = row.partition("(")[0]
                 self.assertEqual(name + str(inspect.signature(getattr(loaded, name))), row)
+
+    def test_methods_of_parts(self):
+        loaded = importlib.import_module("tanglehouse.parts")
+        for part in PARTS:
+            for row in METHODS:
+                name = row.partition("(")[0]
+                self.assertEqual(name + str(inspect.signature(getattr(getattr(loaded, part), name))), row)
 
 
 if __name__ == "__main__":

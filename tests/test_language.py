@@ -26,6 +26,7 @@ STATEMENTS = (ast.Assign, ast.AugAssign, ast.If, ast.While, ast.For, ast.Return,
 EXPRESSIONS = (ast.Constant, ast.List, ast.Tuple, ast.Dict, ast.Set, ast.BinOp, ast.UnaryOp, ast.BoolOp, ast.Compare,
                ast.IfExp, ast.Call, ast.Attribute, ast.Subscript, ast.Slice, ast.ListComp, ast.JoinedStr,
                ast.FormattedValue, ast.Name, ast.Lambda)
+FREE_VALUES = ("count", "index", "title", "find", "get", "join", "lower", "upper", "split", "strip", "copy", "add")
 WALKED = ("zip", "enumerate", "reversed", "range", "items", "keys", "values")
 WALKERS = ("list", "tuple", "dict", "sorted", "sum", "any", "all", "enumerate", "zip", "min", "max", "join")
 KEYWORDS = {"sorted": ("key", "reverse"), "min": ("key", "default"), "max": ("key", "default"), "sum": ("start",),
@@ -241,6 +242,12 @@ def methods_of(texts):
     return told
 
 
+def values_of(texts):
+    """The names of all values that are given to objects."""
+    nodes = [node for text in texts for node in ast.walk(ast.parse(text))]
+    return [node.attr for node in nodes if isinstance(node, ast.Attribute) and isinstance(node.ctx, ast.Store)]
+
+
 def rules_broken(text):
     return sorted({rule for rule, _ in Checker(text).wrong})
 
@@ -258,6 +265,15 @@ class Language(unittest.TestCase):
         own = methods_of(texts.values())
         for path, text in texts.items():
             self.assertEqual(Checker(text, own).wrong, [], path.name)
+
+    def test_no_name_is_a_method_and_a_value(self):
+        texts = [path.read_text(encoding="utf-8") for path in files()]
+        methods, values = set(methods_of(texts)), set(values_of(texts))
+        self.assertTrue(methods and values)
+        self.assertEqual(methods & values, set())
+        pythons = {name for kind in (str, int, list, tuple, dict, set, bytes) for name in dir(kind)}
+        self.assertEqual((methods & pythons) - METHODS - DUNDERS - {"add", "discard"}, set())
+        self.assertEqual(values & (pythons | {"args"}) - set(FREE_VALUES), set())
 
     def test_imports_come_from_where_a_name_is_made_and_not_in_a_round(self):
         trees = {path.stem: ast.parse(path.read_text(encoding="utf-8")) for path in files()}
