@@ -3,9 +3,11 @@
 import itertools
 import math
 from collections import Counter
+from fractions import Fraction
 
 from tanglehouse import parts
 from tanglehouse.errors import TangleError
+from tanglehouse.webs import named_anew
 
 NOTHING = ((), (), 0)
 TREFOIL = (((1, 5, 2, 4), (3, 1, 4, 6), (5, 3, 6, 2)), (), 0)
@@ -113,12 +115,12 @@ def twisted_row(many):
 
 
 def walked(web, ways):
-    """The joining and the rings with the crossings opened, by walking from place to place."""
+    """The joining and the rings with the crossings opened, by walking from place to place; by 2 straight through."""
     there = {}
     for k, row in enumerate(web[0]):
         there.update({(k, j): arc for j, arc in enumerate(row)})
     there.update({(-1, j): arc for j, arc in enumerate(web[1])})
-    across = [{0: 1, 1: 0, 2: 3, 3: 2}, {0: 3, 3: 0, 1: 2, 2: 1}]
+    across = [{0: 1, 1: 0, 2: 3, 3: 2}, {0: 3, 3: 0, 1: 2, 2: 1}, {0: 2, 2: 0, 1: 3, 3: 1}]
     left, joining, rings = set(there), [], web[2]
     while left:
         start = here = min(left)
@@ -261,3 +263,148 @@ def chance_trees(chance, many, crossings):
     """So many parts, told as trees, of at most so many crossings, none within more than eight others."""
     depths = [chance.randint(3, 8) for _ in range(many)]
     return [chance_tree(chance, depth, chance.randint(0, min(crossings, 2 ** depth))) for depth in depths]
+
+
+def value_again(twists):
+    """The value of a list, by Python's own fractions, None for 1 by 0."""
+    told = Fraction(twists[0])
+    for number in twists[1:]:
+        if told is None:
+            told = Fraction(number)
+        else:
+            told = None if told == 0 else number - 1 / told
+    return (1, 0) if told is None else (told.numerator, told.denominator)
+
+
+def chance_list(chance, length, many):
+    """A list of so many numbers that come to so many without their signs, with noughts among them."""
+    told = [0] * length
+    for _ in range(many):
+        told[chance.randrange(length)] += 1
+    return [chance.choice((-1, 1)) * number for number in told]
+
+
+def small_lists(most, length):
+    """All lists of up to length numbers, none beyond most without its sign."""
+    for many in range(1, length + 1):
+        yield from (list(row) for row in itertools.product(range(-most, most + 1), repeat=many))
+
+
+def chance_lists(chance, many):
+    """Lists to the bounds: of up to forty numbers that come to at most forty."""
+    told = [chance_list(chance, chance.randint(1, 40), chance.randint(0, 40)) for _ in range(many)]
+    told += [chance_list(chance, chance.randint(1, 8), chance.randint(0, 40)) for _ in range(many)]
+    told += [[40], [-40], [20, -20], [1] * 40, [-1] * 40, [1, -1] * 20, [0] * 40]
+    return told + [[0] * 39 + [40], [-40] + [0] * 39]
+
+
+def times_curls(one, many):
+    """A polynomial times -x^3 to a power of any sign."""
+    return tuple((power + 3 * many, (-1) ** many * number) for power, number in one)
+
+
+def sums_times_curls(told, many):
+    """Sums, each times -x^3 to a power of any sign."""
+    return {joining: times_curls(one, many) for joining, one in told.items()}
+
+
+def arcs_of(web):
+    """The arcs of a web, rising."""
+    return sorted({arc for row in web[0] + (web[1],) for arc in row})
+
+
+def pairings(places):
+    """All ways to pair places."""
+    if not places:
+        yield []
+    for k in range(1, len(places)):
+        yield from ([(places[0], places[k])] + rest for rest in pairings(places[1:k] + places[k + 1:]))
+
+
+def all_places(crossings, ends):
+    return [(k, j) for k in range(crossings) for j in range(4)] + [(-1, j) for j in range(ends)]
+
+
+def web_of(pairs, crossings, ends, rings=0):
+    """The web whose arcs join these pairs of places, each called by its pair's number."""
+    there = {place: arc for arc, pair in enumerate(pairs) for place in pair}
+    rows = tuple(tuple(there[(k, j)] for j in range(4)) for k in range(crossings))
+    return (rows, tuple(there[(-1, j)] for j in range(ends)), rings)
+
+
+def every_web(crossings, ends):
+    """All webs of so many crossings and ends, but for names."""
+    return (web_of(pairs, crossings, ends) for pairs in pairings(all_places(crossings, ends)))
+
+
+def planted(chance, word, corners, crossings, ends):
+    """A web with a turning at these corners, its other places joined by chance; and the turning."""
+    pairs = [((k, i), (l, (j + 1) % 4)) for (k, i), (l, j) in zip(corners, corners[1:] + corners[:1])]
+    left = [place for place in all_places(crossings, ends) if place not in [place for pair in pairs for place in pair]]
+    chance.shuffle(left)
+    pairs += list(zip(left[::2], left[1::2]))
+    chance.shuffle(pairs)
+    first = corners.index(min(corners))
+    web = web_of(pairs, crossings, ends, chance.choice((0, 0, 3)))
+    return web, (word, tuple(corners[first:] + corners[:first]))
+
+
+def turnable(chance, many, crossings, ends):
+    """Webs with a turning each, so many for each word and each row of places that it may have; with the turning."""
+    for word, size in (("curl", 1), ("slide", 2), ("over", 3)):
+        for row in itertools.product(range(4), repeat=size):
+            if size == 1 or 0 < sum(i % 2 for i in row) < size:
+                for _ in range(many):
+                    most = chance.randint(size, crossings)
+                    numbers = chance.sample(range(most), size)
+                    yield planted(chance, word, list(zip(numbers, row)), most, 2 * chance.randint(0, ends // 2))
+
+
+def erased_again(web, gone):
+    """A web without some crossings, by walking: their strands go straight on."""
+    many = len(web[1])
+    rows = tuple(row for k, row in enumerate(web[0]) if k not in gone)
+    cut = (rows, web[1] + tuple(arc for k in gone for arc in web[0][k]), web[2])
+    seams = [((0, many + 4 * k + j), (0, many + 4 * k + j + 2)) for k in range(len(gone)) for j in (0, 1)]
+    return together([cut], seams, [(0, j) for j in range(many)])
+
+
+def over_again(web, corners):
+    """A web by an over, by walking: each of three strands passes its two crossings in the other order."""
+    gone = [k for k, _ in corners]
+    others = [k for k in range(len(web[0])) if k not in gone]
+    many = len(web[1])
+    outer = [(k, (i + more) % 4) for k, i in corners for more in (2, 3)]
+    cut = (tuple(web[0][k] for k in others), web[1] + tuple(web[0][k][j] for k, j in outer), web[2])
+    rows = {k: [None] * 4 for k in gone}
+    for number, ((k, i), (l, j)) in enumerate(zip(corners, corners[1:] + corners[:1])):
+        # From the place behind k's to l, on to k in the same direction as ever, and out where l led.
+        rows[l][(j + 1) % 4] = outer.index((k, (i + 2) % 4))
+        rows[l][(j + 3) % 4] = rows[k][(i + 2) % 4] = 6 + number
+        rows[k][i] = outer.index((l, (j + 3) % 4))
+    three = (tuple(tuple(rows[k]) for k in gone), tuple(range(6)), 0)
+    made = together([cut, three], [((0, many + j), (1, j)) for j in range(6)], [(0, j) for j in range(many)])
+    rows = dict(zip(others + gone, made[0]))
+    return named_anew((tuple(rows[k] for k in sorted(rows)), made[1], made[2]))
+
+
+def turned_again(web, turning):
+    """A web by a turning, by walking."""
+    word, corners = turning
+    return over_again(web, corners) if word == "over" else erased_again(web, [k for k, _ in corners])
+
+
+def turnings_again(web):
+    """The turnings of a web, by looking for arcs from corner to corner."""
+    corners = [(k, i) for k in range(len(web[0])) for i in range(4)]
+    leads = lambda one, other: web[0][one[0]][one[1]] == web[0][other[0]][(other[1] + 1) % 4]
+    told = [("curl", (one,)) for one in corners if leads(one, one)]
+    for one, other in itertools.product(corners, repeat=2):
+        if one[0] < other[0] and leads(one, other):
+            if leads(other, one) and one[1] % 2 != other[1] % 2:
+                told.append(("slide", (one, other)))
+            for third in corners:
+                if one[0] < third[0] != other[0] and leads(other, third) and leads(third, one):
+                    if len({one[1] % 2, other[1] % 2, third[1] % 2}) == 2:
+                        told.append(("over", (one, other, third)))
+    return sorted(told)

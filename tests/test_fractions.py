@@ -1,10 +1,8 @@
 """[2], [3], [23], [24], [25]: pairs of parts, polynomials at x^4 = -1, and lists of twists."""
 
-import itertools
 import math
 import random
 import unittest
-from fractions import Fraction
 
 from tanglehouse.faces import check_flat
 from tanglehouse.fractions import pair, taken, twisted, twisted_sums, value
@@ -12,11 +10,10 @@ from tanglehouse.parts import Above, Beside, Level, Mirrored, Single, Turned, Up
 from tanglehouse.polynomials import is_polynomial, lifted, plus, times
 from tanglehouse.stores import sums
 from tanglehouse.texts import shown
-from tanglehouse.ways import plain_sums
 from tanglehouse.webs import check_web, mirrored, named_anew
-from tests.helper import LEVEL, SINGLE, UPRIGHT
-from tests.helper import as_told, chance_trees, glued_again, part_of, quarter_again, refused, sums_again, trees
-from tests.helper import twisted_row
+from tests.helper import LEVEL, SINGLE
+from tests.helper import as_told, chance_lists, chance_trees, glued_again, part_of, quarter_again, refused
+from tests.helper import small_lists, sums_again, trees, twisted_row, value_again
 
 LEVEL_ENDS = ((0, 3), (1, 2))
 UPRIGHT_ENDS = ((0, 1), (2, 3))
@@ -73,17 +70,6 @@ def of_term(number, power):
     return [number if k == power else 0 for k in range(4)]
 
 
-def value_again(twists):
-    """The value of a list, by Python's own fractions, None for 1 by 0."""
-    told = Fraction(twists[0])
-    for number in twists[1:]:
-        if told is None:
-            told = Fraction(number)
-        else:
-            told = None if told == 0 else number - 1 / told
-    return (1, 0) if told is None else (told.numerator, told.denominator)
-
-
 def twisted_again(twists):
     """The tangle of a list, by walking."""
     back = named_anew(mirrored(SINGLE))
@@ -103,27 +89,6 @@ def part_by_twists(twists):
         for _ in range(abs(number)):
             part = Beside(part, Single() if number > 0 else Mirrored(Single()))
     return part
-
-
-def chance_list(chance, length, many):
-    """A list of so many numbers that come to so many without their signs, with noughts among them."""
-    told = [0] * length
-    for _ in range(many):
-        told[chance.randrange(length)] += 1
-    return [chance.choice((-1, 1)) * number for number in told]
-
-
-def small_lists(most, length):
-    for many in range(1, length + 1):
-        yield from (list(row) for row in itertools.product(range(-most, most + 1), repeat=many))
-
-
-def chance_lists(chance, many):
-    """Lists to the bounds: of up to forty numbers that come to at most forty."""
-    told = [chance_list(chance, chance.randint(1, 40), chance.randint(0, 40)) for _ in range(many)]
-    told += [chance_list(chance, chance.randint(1, 8), chance.randint(0, 40)) for _ in range(many)]
-    told += [[40], [-40], [20, -20], [1] * 40, [-1] * 40, [1, -1] * 20, [0] * 40]
-    return told + [[0] * 39 + [40], [-40] + [0] * 39]
 
 
 class Pair(unittest.TestCase):

@@ -21,6 +21,10 @@ FUNCTIONS = {
     "parts": ("Part()", "Level()", "Upright()", "Single()", "Beside(one, other)", "Above(one, other)", "Turned(one)",
               "Mirrored(one)", "read_part(text)"),
     "fractions": ("pair(part)", "taken(polynomial)", "value(twists)", "twisted(twists)", "twisted_sums(twists)"),
+    "easing": ("step(twists, step)", "led(twists, steps)", "least_list(fraction)", "eased(twists)"),
+    "turnings": ("turnings(web)", "turned(web, turning)", "weight_of(turning)"),
+    "strands": ("strands(web)", "how_strung(web)", "turns(web)", "links(web)", "own_sums(web)"),
+    "colours": ("is_colouring(web, m, colouring)", "colours(web, m)"),
 }
 # The methods that each kind of part has.
 METHODS = ("web(self)", "sums(self)", "written(self)")
