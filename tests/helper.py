@@ -20,6 +20,12 @@ UPRIGHT = ((), (0, 0, 1, 1), 0)
 CROSSED_ENDS = ((), (0, 1, 0, 1), 0)
 TORUS = (((0, 1, 0, 1),), (), 0)
 KNOWN = (NOTHING, TREFOIL, FIGURE_EIGHT, HOPF, CURL, SINGLE, LEVEL, UPRIGHT, CROSSED_ENDS, TORUS)
+# The text of one strand that closes, of twelve crossings, whose fronts are too wide; its colours are those of a ring.
+WIDE = ("x 0 1 2 3 x 4 5 6 7 x 8 9 10 11 x 12 5 13 0 x 14 11 15 2 x 16 3 9 8 x 16 17 18 6 x 14 19 20 13 x 21 7 22 10 "
+        "x 18 4 23 20 x 15 21 12 23 x 1 22 17 19")
+# The texts of webs whose shelves of nineteen and of twenty forms each don't meet, but with one form more do.
+MEET_AT_20 = ("x 0 0 1 2 x 3 4 2 1 x 6 9 8 6 x 9 5 3 8 x 12 4 5 12", "x 0 0 1 2 x 2 1 3 3")
+MEET_AT_21 = ("x 0 0 1 2 x 4 1 2 3 x 6 7 4 5 x 9 7 6 9 x 3 11 11 5", "x 0 0 1 1")
 # A prime so large that polynomials with the same values by it are the same, but for a chance that can't be met.
 PRIME = 2 ** 127 - 1
 # Things of each kind that are no texts and no tuples.
@@ -300,7 +306,7 @@ def chance_lists(chance, many):
 
 def times_curls(one, many):
     """A polynomial times -x^3 to a power of any sign."""
-    return tuple((power + 3 * many, (-1) ** many * number) for power, number in one)
+    return tuple((power + 3 * many, (-1) ** (many % 2) * number) for power, number in one)
 
 
 def sums_times_curls(told, many):
@@ -408,3 +414,155 @@ def turnings_again(web):
                     if len({one[1] % 2, other[1] % 2, third[1] % 2}) == 2:
                         told.append(("over", (one, other, third)))
     return sorted(told)
+
+
+def reworded(chance, web):
+    """A web by other names of its arcs, its crossings in another order, some told from the third place on."""
+    names = dict(zip(arcs_of(web), chance.sample(range(10 ** 9), len(arcs_of(web)))))
+    rows = [tuple(names[arc] for arc in row) for row in web[0]]
+    rows = [row[2:] + row[:2] if chance.randrange(2) else row for row in rows]
+    chance.shuffle(rows)
+    return (tuple(rows), tuple(names[arc] for arc in web[1]), web[2])
+
+
+def least_wording(web):
+    """The least web, named anew, by all orders of the crossings, each told from its first and its third place on."""
+    told = []
+    for rows in itertools.permutations(web[0]):
+        for turns in itertools.product((0, 2), repeat=len(rows)):
+            again = tuple(row[turn:] + row[:turn] for row, turn in zip(rows, turns))
+            told.append(named_anew((again, web[1], web[2])))
+    return min(told)
+
+
+def is_naming_again(one, other, names):
+    """Whether a dict is a naming, by taking the other's crossings away one by one."""
+    if set(names) != set(arcs_of(one)) or not set(names.values()) <= set(arcs_of(other)):
+        return False
+    if len(set(names.values())) < len(names) or one[2] != other[2]:
+        return False
+    left = list(other[0])
+    for row in one[0]:
+        a, b, c, d = [names[arc] for arc in row]
+        for again in ((a, b, c, d), (c, d, a, b)):
+            if again in left:
+                left.remove(again)
+                break
+        else:
+            return False
+    return left == [] and [names[arc] for arc in one[1]] == list(other[1])
+
+
+def rows_again(web, start):
+    """The rows of places, from the first row on, to which a walk comes; places of arcs are looked for one by one."""
+    there = {(k, j): arc for k, row in enumerate(web[0] + (web[1],)) for j, arc in enumerate(row)}
+    rows = [start]
+    for row in rows:
+        for place in row:
+            (k, j), = [other for other in there if other != place and there[other] == there[place]]
+            if k not in [row[0][0] for row in rows]:
+                first = {0: 0, 1: 0, 2: 2, 3: 2}[j]
+                rows.append([(k, (first + more) % 4) for more in range(4)])
+    return [[there[place] for place in row] for row in rows]
+
+
+def told_again(web, gate):
+    """What the walk from a gate tells."""
+    rows, names = rows_again(web, [(gate[0], (gate[1] + more) % 4) for more in range(4)]), {}
+    return tuple(tuple(names.setdefault(arc, len(names)) for arc in row) for row in rows)
+
+
+def plain_again(web):
+    """The plain form of a web."""
+    rim = len(web[0])
+    rows = [tuple(row) for row in rows_again(web, [(rim, j) for j in range(len(web[1]))])[1:]] if web[1] else []
+    left = [k for k in range(rim) if not set(web[0][k]) & {arc for row in rows for arc in row}]
+    closed = []
+    while left:
+        piece = {arc for row in rows_again(web, [(left[0], j) for j in range(4)]) for arc in row}
+        numbers = [k for k in left if web[0][k][0] in piece]
+        closed.append(min(told_again(web, (k, place)) for k in numbers for place in (0, 2)))
+        left = [k for k in left if k not in numbers]
+    for number, told in enumerate(sorted(closed)):
+        rows += [tuple((number, arc) for arc in row) for row in told]
+    names = {}
+    anew = [tuple(names.setdefault(arc, len(names)) for arc in row) for row in rows + [web[1]]]
+    return (tuple(anew[:-1]), anew[-1], web[2])
+
+
+def with_curl(chance, web):
+    """A web with an arc of it, or a ring, curled; and the turning that takes the curl away."""
+    arcs, fresh = arcs_of(web), max(arcs_of(web), default=0) + 1
+    i, k = chance.randrange(4), len(web[0])
+    row = [None] * 4
+    row[i] = row[(i + 1) % 4] = fresh
+    if web[2] and (not arcs or chance.randrange(4) == 0):
+        row[(i + 2) % 4] = row[(i + 3) % 4] = fresh + 1
+        return (web[0] + (tuple(row),), web[1], web[2] - 1), ("curl", ((k, i),))
+    arc = chance.choice(arcs)
+    row[(i + 2) % 4], row[(i + 3) % 4] = chance.sample((arc, fresh + 1), 2)
+    rows = parted_at(web, arc, fresh + 1)
+    return (rows[:-1] + (tuple(row),), rows[-1], web[2]), ("curl", ((k, i),))
+
+
+def parted_at(web, arc, fresh):
+    """The crossings of a web and its ends behind them, an arc called otherwise at its first place."""
+    rows = [list(row) for row in web[0] + (web[1],)]
+    row = next(row for row in rows if arc in row)
+    row[row.index(arc)] = fresh
+    return tuple(tuple(row) for row in rows)
+
+
+def with_slide(chance, web):
+    """A web with one of two arcs of it laid over the other; and the slide that takes it away."""
+    fresh, k = max(arcs_of(web)) + 1, len(web[0])
+    one, other = chance.sample(arcs_of(web), 2)
+    rows = parted_at(web, one, fresh)
+    rows = parted_at((rows[:-1], rows[-1], 0), other, fresh + 1)
+    i = chance.randrange(4)
+    j = (i + chance.choice((1, 3))) % 4
+    ends, others = chance.sample((one, fresh), 2), chance.sample((other, fresh + 1), 2)
+    first, second = [None] * 4, [None] * 4
+    first[i] = second[(j + 1) % 4] = fresh + 2
+    second[j] = first[(i + 1) % 4] = fresh + 3
+    first[(i + 2) % 4], second[(j + 3) % 4] = ends
+    first[(i + 3) % 4], second[(j + 2) % 4] = others
+    made = (rows[:-1] + (tuple(first), tuple(second)), rows[-1], web[2])
+    return made, ("slide", ((k, i), (k + 1, j)))
+
+
+def weight_again(turning):
+    """The weight of a turning, by its corner's place."""
+    return {0: 1, 1: -1, 2: 1, 3: -1}[turning[1][0][1]] if turning[0] == "curl" else 0
+
+
+def chance_row(chance, web, many):
+    """A row of so many paces from a web, its webs by other names; the web that it comes to; and its weight."""
+    row, weight = [], 0
+    for _ in range(many):
+        near = reworded(chance, web)
+        known = turnings_again(near)
+        if known and (chance.randrange(2) or len(web[0]) > 9):
+            turning = chance.choice(known)
+            row.append(("on", near, turning))
+            web = turned_again(near, turning)
+            weight += weight_again(turning)
+        elif arcs_of(near) or near[2]:
+            with_more = with_slide if len(arcs_of(near)) > 1 and chance.randrange(2) else with_curl
+            web, turning = with_more(chance, near)
+            row.append(("back", web, turning))
+            weight -= weight_again(turning)
+    return row, web, weight
+
+
+def shelf_again(web, most):
+    """The first forms on the shelf of a web."""
+    forms = [plain_again(web)]
+    for form in forms:
+        for turning in turnings_again(form):
+            after = plain_again(turned_again(form, turning))
+            if after not in forms:
+                forms.append(after)
+        if len(forms) >= most:
+            break
+    return forms[:most]

@@ -25,6 +25,10 @@ FUNCTIONS = {
     "turnings": ("turnings(web)", "turned(web, turning)", "weight_of(turning)"),
     "strands": ("strands(web)", "how_strung(web)", "turns(web)", "links(web)", "own_sums(web)"),
     "colours": ("is_colouring(web, m, colouring)", "colours(web, m)"),
+    "plain": ("told_by(web, gate)", "plain(web)", "naming(one, other)", "is_naming(one, other, naming)"),
+    "paces": ("gone(web, row)",),
+    "telling": ("shelf(web, most)", "compared(one, other, most=20)"),
+    "desk": ("Desk()",),
 }
 # The methods that each kind of part has.
 METHODS = ("web(self)", "sums(self)", "written(self)")
@@ -39,12 +43,18 @@ class Interface(unittest.TestCase):
                 name = row.partition("(")[0]
                 self.assertEqual(name + str(inspect.signature(getattr(loaded, name))), row)
 
+    def look_for_method(self, kind, row):
+        name = row.partition("(")[0]
+        self.assertEqual(name + str(inspect.signature(getattr(kind, name))), row)
+
     def test_methods_of_parts(self):
         loaded = importlib.import_module("tanglehouse.parts")
         for part in PARTS:
             for row in METHODS:
-                name = row.partition("(")[0]
-                self.assertEqual(name + str(inspect.signature(getattr(getattr(loaded, part), name))), row)
+                self.look_for_method(getattr(loaded, part), row)
+
+    def test_methods_of_the_desk(self):
+        self.look_for_method(importlib.import_module("tanglehouse.desk").Desk, "say(self, row)")
 
 
 if __name__ == "__main__":
